@@ -3,9 +3,12 @@
 import inspect
 import unittest
 
-from tracerline import exact, polynomials
+from tracerline import exact, lines, polynomials, webs, weights
 from tracerline.exact import Fraction, read_fraction
+from tracerline.lines import Line
 from tracerline.polynomials import Polynomial
+from tracerline.webs import Web
+from tracerline.weights import Weights, end_weights
 
 FRACTION_METHODS = [
     "__init__", "__add__", "__radd__", "__sub__", "__rsub__", "__mul__", "__rmul__", "__neg__", "__abs__", "__bool__",
@@ -17,10 +20,32 @@ POLYNOMIAL_METHODS = [
 ]
 
 
+WEB_METHODS = [
+    "__init__", "width", "room_total", "passage_total", "after", "lost", "moved", "readings", "ticking", "shut",
+]
+LINE_METHODS = [
+    "__init__", "__len__", "__getitem__", "__call__", "__eq__", "__ne__", "shares", "readings", "web", "limit",
+    "worth", "cut",
+]
+WEIGHTS_METHODS = [
+    "__init__", "FORMS", "degree", "__call__", "polynomial", "half", "sum_over", "bars", "times_x", "times_rest",
+]
+METHODS = [
+    (Fraction, FRACTION_METHODS), (Polynomial, POLYNOMIAL_METHODS), (Web, WEB_METHODS), (Line, LINE_METHODS),
+    (Weights, WEIGHTS_METHODS),
+]
+PLACES = [
+    (exact, [Fraction, read_fraction]), (polynomials, [Polynomial]), (webs, [Web]), (lines, [Line]),
+    (weights, [Weights, end_weights]),
+]
+
+
 def parameters(function):
-    """The names of the parameters of a function, with the defaults where there are some."""
+    """The names of the parameters of a function, with the defaults where there are some, "*" before names only."""
     found = []
     for parameter in inspect.signature(function).parameters.values():
+        if parameter.kind is inspect.Parameter.KEYWORD_ONLY and "*" not in found:
+            found.append("*")
         if parameter.default is inspect.Parameter.empty:
             found.append(parameter.name)
         else:
@@ -29,24 +54,31 @@ def parameters(function):
 
 
 class Interface(unittest.TestCase):
+    def check_parameters(self, expected):
+        for function, names in expected:
+            self.assertEqual(parameters(function), names, function)
+
     def test_each_thing_is_defined_in_its_file(self):
-        for module, things in ((exact, [Fraction, read_fraction]), (polynomials, [Polynomial])):
+        for module, things in PLACES:
             for thing in things:
                 self.assertEqual(thing.__module__, module.__name__)
                 self.assertIs(getattr(module, thing.__name__), thing)
 
     def test_each_method_stands_in_its_class(self):
-        for name in FRACTION_METHODS:
-            self.assertIn(name, vars(Fraction))
-        for name in POLYNOMIAL_METHODS:
-            self.assertIn(name, vars(Polynomial))
+        for owner, names in METHODS:
+            for name in names:
+                self.assertIn(name, vars(owner), (owner, name))
 
     def test_kinds_of_methods(self):
-        self.assertIsInstance(vars(Polynomial)["degree"], property)
+        for owner, name in ((Polynomial, "degree"), (Weights, "degree")):
+            self.assertIsInstance(vars(owner)[name], property)
         self.assertIsInstance(vars(Polynomial)["power"], staticmethod)
+        for owner, name in ((Web, "shut"), (Line, "cut")):
+            self.assertIsInstance(vars(owner)[name], classmethod)
+        self.assertTrue(inspect.isgeneratorfunction(Web.ticking))
 
-    def test_parameters(self):
-        expected = [
+    def test_parameters_of_fractions_and_polynomials(self):
+        self.check_parameters([
             (Fraction, ["top", ("bottom", 1)]),
             (Fraction(1).over, ["other"]),
             (read_fraction, ["text"]),
@@ -58,9 +90,39 @@ class Interface(unittest.TestCase):
             (Polynomial().sum_over, ["readings"]),
             (Polynomial.power, ["k"]),
             (Polynomial(), ["x"]),
-        ]
-        for function, names in expected:
-            self.assertEqual(parameters(function), names)
+        ])
+
+    def test_parameters_of_webs_lines_and_weights(self):
+        web, line, one = Web([[1]]), Line([1]), Weights("1", Polynomial([1]))
+        self.check_parameters([
+            (Web, ["widths", "*", ("room_leaks", ()), ("passage_leaks", ())]),
+            (web.width, ["room", "passage"]),
+            (web.room_total, ["room"]),
+            (web.passage_total, ["passage"]),
+            (web.after, ["ticks", "*", ("start", 0)]),
+            (web.lost, ["ticks", "*", ("start", 0)]),
+            (web.moved, ["room", "other", "ticks"]),
+            (web.readings, ["ticks"]),
+            (web.ticking, ["ticks"]),
+            (Web.shut, ["widths"]),
+            (Line, ["shares"]),
+            (line, ["tick"]),
+            (line.shares, []),
+            (line.readings, ["ticks"]),
+            (line.web, []),
+            (line.limit, []),
+            (line.worth, ["keep"]),
+            (Line.cut, ["shares"]),
+            (Weights, ["form", "root"]),
+            (one, ["x"]),
+            (one.polynomial, []),
+            (one.half, []),
+            (one.sum_over, ["readings"]),
+            (one.bars, ["readings"]),
+            (one.times_x, []),
+            (one.times_rest, []),
+            (end_weights, ["shares", "end"]),
+        ])
 
 
 if __name__ == "__main__":

@@ -1,6 +1,6 @@
 """Exact fractions and the texts that write them."""
 
-from math import gcd
+from math import gcd, lcm
 
 from tracerline.errors import BadFraction, BadText
 
@@ -105,6 +105,19 @@ def as_fraction(number):
     if isinstance(number, Fraction):
         return number
     return Fraction(number)
+
+
+def common_bottom(numbers):
+    """The least integer from 1 on that makes an integer of each of the Fractions when it is multiplied by it."""
+    common = 1
+    for number in numbers:
+        common = lcm(common, number.bottom)
+    return common
+
+
+def over_bottom(number, bottom):
+    """The integer of which the quotient by the bottom is the Fraction; the bottom is one of common_bottom."""
+    return number.top * (bottom // number.bottom)
 
 
 def _is_number(thing):
