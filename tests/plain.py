@@ -147,6 +147,30 @@ def all_things():
     return [web_of(sample) for sample in WEBS] + [Line(shares) for shares in LINES]
 
 
+def shares_of(readings):
+    """The shares of readings up to the first 0 or 1, found by walks over lines with the ends 0 and 1."""
+    shares = []
+    for tick in range(1, len(readings)):
+        low, high = walk(shares + [0], tick)[tick], walk(shares + [1], tick)[tick]
+        shares.append((theirs(readings[tick]) - low) / (high - low))
+        if shares[-1] in (0, 1):
+            break
+    return shares
+
+
+def range_behind(shares, tick):
+    """The least and the greatest reading at the tick behind readings with these shares."""
+    if shares and shares[-1] in (0, 1):
+        return (walk(shares, tick)[tick],) * 2
+    return walk(shares + [0], tick)[tick], walk(shares + [1], tick)[tick]
+
+
+def lists_of_readings():
+    """The readings of all webs and lines up to the tick 12."""
+    found = [[amounts[0] for amounts, lost in play(*sample, ticks=12)] for sample in WEBS]
+    return [[ours(reading) for reading in readings] for readings in found + [walk(shares, 12) for shares in LINES]]
+
+
 class PlainCase(unittest.TestCase):
     def check_number(self, found, expected):
         """The found value is a Fraction, and the expected number."""

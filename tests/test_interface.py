@@ -3,10 +3,16 @@
 import inspect
 import unittest
 
-from tracerline import exact, lines, polynomials, webs, weights
+from tracerline import alike as alike_module
+from tracerline import exact, lines, papers, polynomials, reader, webs, weights
+from tracerline import later as later_module
+from tracerline.alike import alike, groups, last_needed, line_of, parting, seen_apart
 from tracerline.exact import Fraction, read_fraction
+from tracerline.later import fewest, later, limit_between, reached, worth_between
 from tracerline.lines import Line
+from tracerline.papers import Paper, holds, paper_for
 from tracerline.polynomials import Polynomial
+from tracerline.reader import Reader, explained
 from tracerline.webs import Web
 from tracerline.weights import Weights, end_weights
 
@@ -30,13 +36,20 @@ LINE_METHODS = [
 WEIGHTS_METHODS = [
     "__init__", "FORMS", "degree", "__call__", "polynomial", "half", "sum_over", "bars", "times_x", "times_rest",
 ]
+READER_METHODS = [
+    "__init__", "__contains__", "last_tick", "low", "high", "gap", "settled", "take", "take_back", "shares",
+    "readings", "as_line",
+]
 METHODS = [
     (Fraction, FRACTION_METHODS), (Polynomial, POLYNOMIAL_METHODS), (Web, WEB_METHODS), (Line, LINE_METHODS),
-    (Weights, WEIGHTS_METHODS),
+    (Weights, WEIGHTS_METHODS), (Reader, READER_METHODS), (Paper, ["__init__", "KINDS", "value"]),
 ]
 PLACES = [
     (exact, [Fraction, read_fraction]), (polynomials, [Polynomial]), (webs, [Web]), (lines, [Line]),
-    (weights, [Weights, end_weights]),
+    (weights, [Weights, end_weights]), (reader, [Reader, explained]),
+    (later_module, [later, reached, worth_between, limit_between, fewest]),
+    (papers, [Paper, holds, paper_for]),
+    (alike_module, [line_of, parting, alike, groups, last_needed, seen_apart]),
 ]
 
 
@@ -72,6 +85,8 @@ class Interface(unittest.TestCase):
     def test_kinds_of_methods(self):
         for owner, name in ((Polynomial, "degree"), (Weights, "degree")):
             self.assertIsInstance(vars(owner)[name], property)
+        for name in ("last_tick", "low", "high", "gap", "settled"):
+            self.assertIsInstance(vars(Reader)[name], property)
         self.assertIsInstance(vars(Polynomial)["power"], staticmethod)
         for owner, name in ((Web, "shut"), (Line, "cut")):
             self.assertIsInstance(vars(owner)[name], classmethod)
@@ -122,6 +137,33 @@ class Interface(unittest.TestCase):
             (one.times_x, []),
             (one.times_rest, []),
             (end_weights, ["shares", "end"]),
+        ])
+
+    def test_parameters_of_what_readings_tell(self):
+        paper = Paper("least", 0, Weights("1", Polynomial([1])), Polynomial(), Polynomial([1]))
+        self.check_parameters([
+            (Reader, ["*", ("most", 12)]),
+            (Reader().take, ["reading"]),
+            (Reader().take_back, []),
+            (Reader().shares, []),
+            (Reader().readings, []),
+            (Reader().as_line, ["*", ("end", 0)]),
+            (explained, ["readings", "*", ("end", 0)]),
+            (later, ["readings", "tick"]),
+            (reached, ["readings", "tick", "value"]),
+            (worth_between, ["readings", "keep"]),
+            (limit_between, ["readings"]),
+            (fewest, ["readings"]),
+            (Paper, ["kind", "tick", "weights", "quotient", "rest"]),
+            (paper.value, ["readings"]),
+            (holds, ["paper", "readings"]),
+            (paper_for, ["readings", "tick", "kind"]),
+            (line_of, ["thing"]),
+            (parting, ["thing", "other"]),
+            (alike, ["thing", "other"]),
+            (groups, ["things"]),
+            (last_needed, ["thing"]),
+            (seen_apart, ["things"]),
         ])
 
 
