@@ -59,7 +59,7 @@ class Line:
 
     def web(self):
         """A web with the same numbers of rooms and passages and the same readings."""
-        widths = self._widths()
+        widths = self._joint_widths()
         rows = [[0] * self.passages for _ in range(self.rooms)]
         for node in range(self._last_node()):
             rows[(node + 1) // 2][node // 2] = widths[node]
@@ -103,7 +103,7 @@ class Line:
         upper, lower = series_of(self._shares)
         return expanded(upper, lower, ticks)
 
-    def _widths(self):
+    def _joint_widths(self):
         """The widths above the nodes 0, 1, .. as integers; with the end 0 the last one is that of the leak."""
         widths = [Fraction(1)]
         for share in self._shares[:-1]:
