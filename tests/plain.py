@@ -77,6 +77,38 @@ def walk(shares, ticks):
     return readings
 
 
+def glued_walk(share, one, other, ticks):
+    """The amounts in node 0 of two lines that have only this node in common; the first one gets the share of it."""
+    tracks = []
+    for shares in (one, other):
+        shares = all_theirs(shares)
+        tracks.append(([fractions.Fraction(0)] + shares, len(shares) if shares[-1] == 1 else len(shares) - 1))
+    parts = (theirs(share), 1 - theirs(share))
+    amounts = {"middle": fractions.Fraction(1)}
+    readings = [amounts["middle"]]
+    for half in range(2 * ticks):
+        moved = {}
+        for node, amount in amounts.items():
+            for place, part in _glued_targets(node, tracks, parts):
+                moved[place] = moved.get(place, 0) + amount * part
+        amounts = moved
+        if half % 2 == 1:
+            readings.append(amounts.get("middle", fractions.Fraction(0)))
+    return readings
+
+
+def _glued_targets(node, tracks, parts):
+    """Where a node of glued lines sends its amount, as a list of (node, part); a node is (track, place) or "middle"."""
+    if node == "middle":
+        return [((track, 1), parts[track]) for track in (0, 1) if tracks[track][1] >= 1]
+    track, place = node
+    down, last = tracks[track]
+    found = [((track, place - 1) if place > 1 else "middle", down[place])]
+    if place < last:
+        found.append(((track, place + 1), 1 - down[place]))
+    return found
+
+
 def product(one, other):
     """The coefficients of the product of two polynomials that are lists of coefficients."""
     found = [fractions.Fraction(0)] * (len(one) + len(other) - 1)

@@ -4,12 +4,15 @@ import inspect
 import unittest
 
 from tracerline import alike as alike_module
-from tracerline import exact, lines, papers, polynomials, reader, webs, weights
+from tracerline import exact, language, lineops, lines, making, papers, polynomials, reader, webs, weights
 from tracerline import later as later_module
 from tracerline.alike import alike, groups, last_needed, line_of, parting, seen_apart
 from tracerline.exact import Fraction, read_fraction
+from tracerline.language import Names, parse, parting_tick, size, value, written
 from tracerline.later import fewest, later, limit_between, reached, worth_between
+from tracerline.lineops import every, fading, fronted, glued, mixed, mixture, paired, waiting
 from tracerline.lines import Line
+from tracerline.making import every_web, fading_web, fronted_web, glued_web, paired_web, waiting_web
 from tracerline.papers import Paper, holds, paper_for
 from tracerline.polynomials import Polynomial
 from tracerline.reader import Reader, explained
@@ -40,9 +43,11 @@ READER_METHODS = [
     "__init__", "__contains__", "last_tick", "low", "high", "gap", "settled", "take", "take_back", "shares",
     "readings", "as_line",
 ]
+NAMES_METHODS = ["__init__", "__getitem__", "__setitem__", "__contains__", "__len__"]
 METHODS = [
     (Fraction, FRACTION_METHODS), (Polynomial, POLYNOMIAL_METHODS), (Web, WEB_METHODS), (Line, LINE_METHODS),
     (Weights, WEIGHTS_METHODS), (Reader, READER_METHODS), (Paper, ["__init__", "KINDS", "value"]),
+    (Names, NAMES_METHODS),
 ]
 PLACES = [
     (exact, [Fraction, read_fraction]), (polynomials, [Polynomial]), (webs, [Web]), (lines, [Line]),
@@ -50,6 +55,9 @@ PLACES = [
     (later_module, [later, reached, worth_between, limit_between, fewest]),
     (papers, [Paper, holds, paper_for]),
     (alike_module, [line_of, parting, alike, groups, last_needed, seen_apart]),
+    (lineops, [mixed, mixture, paired, every, waiting, fading, glued, fronted]),
+    (making, [paired_web, every_web, waiting_web, fading_web, glued_web, fronted_web]),
+    (language, [Names, parse, written, value, size, parting_tick]),
 ]
 
 
@@ -59,7 +67,9 @@ def parameters(function):
     for parameter in inspect.signature(function).parameters.values():
         if parameter.kind is inspect.Parameter.KEYWORD_ONLY and "*" not in found:
             found.append("*")
-        if parameter.default is inspect.Parameter.empty:
+        if parameter.kind is inspect.Parameter.VAR_POSITIONAL:
+            found.append("*" + parameter.name)
+        elif parameter.default is inspect.Parameter.empty:
             found.append(parameter.name)
         else:
             found.append((parameter.name, parameter.default))
@@ -164,6 +174,30 @@ class Interface(unittest.TestCase):
             (groups, ["things"]),
             (last_needed, ["thing"]),
             (seen_apart, ["things"]),
+        ])
+
+    def test_parameters_of_what_makes_lines_and_webs(self):
+        self.check_parameters([
+            (mixed, ["share", "line", "other"]),
+            (mixture, ["*parts"]),
+            (paired, ["line", "other"]),
+            (every, ["step", "line"]),
+            (waiting, ["share", "line"]),
+            (fading, ["share", "line"]),
+            (glued, ["share", "line", "other"]),
+            (fronted, ["first", "second", "line"]),
+            (paired_web, ["web", "other"]),
+            (every_web, ["step", "web"]),
+            (waiting_web, ["share", "web"]),
+            (fading_web, ["share", "web"]),
+            (glued_web, ["share", "web", "other"]),
+            (fronted_web, ["first", "second", "web"]),
+            (Names, []),
+            (parse, ["text"]),
+            (written, ["tree"]),
+            (value, ["tree", "names"]),
+            (size, ["tree", "names"]),
+            (parting_tick, ["tree", "other", "names"]),
         ])
 
 

@@ -1,6 +1,7 @@
 """What a list of readings tells about the readings at later ticks, and about all of them together."""
 
 from tracerline.errors import BadShare, OutOfRange
+from tracerline.lineops import mixed
 from tracerline.reader import explained, reader_of
 
 
@@ -24,7 +25,7 @@ def reached(readings, tick, value):
         raise OutOfRange(least, greatest)
     if least == greatest:
         return low_line
-    return _mixture((value - least).over(greatest - least), high_line, low_line)
+    return mixed((value - least).over(greatest - least), high_line, low_line)
 
 
 def worth_between(readings, keep):
@@ -51,11 +52,3 @@ def _end_lines(readings):
     """The lines of the readings with the end 0 and with the end 1. Raises BadReadings and Barred."""
     reader = reader_of(readings)
     return reader.as_line(end=0), reader.as_line(end=1)
-
-
-def _mixture(share, line, other):
-    """The line with share times the readings of the line plus 1 - share times those of the other one."""
-    # A web that mixes the two has the rooms of both, so its readings are settled by this tick.
-    ticks = 2 * (line.rooms + other.rooms)
-    pairs = list(zip(line.readings(ticks), other.readings(ticks)))
-    return explained([share * one + (1 - share) * two for one, two in pairs])

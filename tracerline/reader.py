@@ -57,12 +57,15 @@ class Reader:
         if value not in self:
             raise Barred(self.last_tick + 1, self._barring(value))
         share = None
+        next_gap = self.gap
         if not self.settled:
             share = (value - self.low).over(self.gap)
+            # The gap is multiplied by the share and by 1 - share.
+            next_gap = (value - self.low) * (1 - share)
             self._add_share(share)
         self._readings.append(value)
         self._lows.append(self._next_low())
-        self._gaps.append(self._next_gap())
+        self._gaps.append(next_gap)
         return share
 
     def take_back(self):
@@ -101,13 +104,6 @@ class Reader:
         half = half_of(self._chain)
         latest = self._readings[len(self._readings) - half.degree:]
         return -half.sum_over(latest + [0])
-
-    def _next_gap(self):
-        """The product of share times (1 - share) over all shares."""
-        gap = Fraction(1)
-        for share in self._shares:
-            gap = gap * share * (1 - share)
-        return gap
 
     def _barring(self, value):
         """Weights that bar the readings together with this next one, which is out of their range."""
