@@ -4,15 +4,24 @@ import inspect
 import unittest
 
 from tracerline import alike as alike_module
-from tracerline import exact, language, lineops, lines, making, papers, polynomials, reader, webs, weights
+from tracerline import booktext, errors, exact, language, lineops, lines, making, oneway, papers, polynomials, reader
+from tracerline import desk as desk_module
+from tracerline import facts as facts_module
 from tracerline import later as later_module
+from tracerline import webs, weights
 from tracerline.alike import alike, groups, last_needed, line_of, parting, seen_apart
+from tracerline.booktext import read_desk
+from tracerline.desk import Desk
 from tracerline.exact import Fraction, read_fraction
+from tracerline.facts import (
+    Clash, Facts, facts_of, fit, forecast, later_with, least_total, least_web, settled_by,
+)
 from tracerline.language import Names, parse, parting_tick, size, value, written
 from tracerline.later import fewest, later, limit_between, reached, worth_between
 from tracerline.lineops import every, fading, fronted, glued, mixed, mixture, paired, waiting
 from tracerline.lines import Line
 from tracerline.making import every_web, fading_web, fronted_web, glued_web, paired_web, waiting_web
+from tracerline.oneway import OneWay, delay_row, first_returns, next_one_way, one_way_of, returned, verdict
 from tracerline.papers import Paper, holds, paper_for
 from tracerline.polynomials import Polynomial
 from tracerline.reader import Reader, explained
@@ -44,10 +53,14 @@ READER_METHODS = [
     "readings", "as_line",
 ]
 NAMES_METHODS = ["__init__", "__getitem__", "__setitem__", "__contains__", "__len__"]
+DESK_METHODS = [
+    "__init__", "__len__", "__contains__", "add_station", "stations", "readings", "between", "suppose", "standing",
+    "struck", "drop", "note", "take_all", "telling", "agreed", "undo", "redo", "text",
+]
 METHODS = [
     (Fraction, FRACTION_METHODS), (Polynomial, POLYNOMIAL_METHODS), (Web, WEB_METHODS), (Line, LINE_METHODS),
     (Weights, WEIGHTS_METHODS), (Reader, READER_METHODS), (Paper, ["__init__", "KINDS", "value"]),
-    (Names, NAMES_METHODS),
+    (Names, NAMES_METHODS), (OneWay, ["__init__", "table", "readings"]), (Desk, DESK_METHODS), (Facts, ["__init__"]),
 ]
 PLACES = [
     (exact, [Fraction, read_fraction]), (polynomials, [Polynomial]), (webs, [Web]), (lines, [Line]),
@@ -58,6 +71,10 @@ PLACES = [
     (lineops, [mixed, mixture, paired, every, waiting, fading, glued, fronted]),
     (making, [paired_web, every_web, waiting_web, fading_web, glued_web, fronted_web]),
     (language, [Names, parse, written, value, size, parting_tick]),
+    (oneway, [OneWay, one_way_of, first_returns, returned, delay_row, verdict, next_one_way]),
+    (desk_module, [Desk]),
+    (booktext, [read_desk]),
+    (facts_module, [Clash, Facts, facts_of, fit, later_with, settled_by, least_web, least_total, forecast]),
 ]
 
 
@@ -199,6 +216,54 @@ class Interface(unittest.TestCase):
             (size, ["tree", "names"]),
             (parting_tick, ["tree", "other", "names"]),
         ])
+
+    def test_parameters_of_one_way_webs_and_facts(self):
+        web = OneWay([[1]])
+        self.check_parameters([
+            (OneWay, ["table"]),
+            (web.table, []),
+            (web.readings, ["ticks"]),
+            (one_way_of, ["web"]),
+            (first_returns, ["readings"]),
+            (returned, ["returns"]),
+            (delay_row, ["returns"]),
+            (verdict, ["readings"]),
+            (next_one_way, ["readings"]),
+            (Facts, ["*", ("rooms", None), ("passages", None), ("leaks", None)]),
+            (facts_of, ["web"]),
+            (fit, ["readings", "facts"]),
+            (later_with, ["readings", "tick", "facts"]),
+            (settled_by, ["readings", "facts"]),
+            (least_web, ["readings", "facts"]),
+            (least_total, ["readings"]),
+            (forecast, ["readings", "ticks"]),
+        ])
+
+    def test_parameters_of_desks(self):
+        one = Desk()
+        self.check_parameters([
+            (Desk, []),
+            (one.add_station, ["name"]),
+            (one.stations, []),
+            (one.readings, ["name"]),
+            (one.between, ["name", "tick"]),
+            (one.suppose, ["name", "label", "thing"]),
+            (one.standing, ["name"]),
+            (one.struck, ["name"]),
+            (one.drop, ["name", "label"]),
+            (one.note, ["name", "reading"]),
+            (one.take_all, ["notes"]),
+            (one.telling, ["name"]),
+            (one.agreed, ["name", "tick"]),
+            (one.undo, []),
+            (one.redo, []),
+            (one.text, []),
+            (read_desk, ["text"]),
+        ])
+
+    def test_clash_stands_beside_the_other_errors(self):
+        self.assertFalse(hasattr(errors, "Clash"))
+        self.assertTrue(issubclass(Clash, errors.TracerError))
 
 
 if __name__ == "__main__":

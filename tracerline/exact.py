@@ -141,6 +141,11 @@ def numeral_end(text, start):
     return end
 
 
+def is_numeral(text):
+    """Whether the whole text is a numeral."""
+    return text != "" and numeral_end(text, 0) == len(text)
+
+
 def read_fraction(text):
     """The Fraction that the text writes. Raises BadText(1, column) if the text is not valid."""
     start = 1 if text.startswith("-") else 0

@@ -80,6 +80,16 @@ class Reader:
         self._gaps.pop()
         return self._readings.pop()
 
+    def copied(self):
+        """Another reader that has taken the same readings."""
+        other = Reader(most=self._most)
+        other._readings = list(self._readings)
+        other._shares = list(self._shares)
+        other._chain = list(self._chain)
+        other._lows = list(self._lows)
+        other._gaps = list(self._gaps)
+        return other
+
     def shares(self):
         """The shares up to the first 0 or 1, in a new list."""
         return list(self._shares)

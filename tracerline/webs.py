@@ -1,7 +1,8 @@
 """Webs of rooms and passages, and the amounts in their rooms."""
 
 from tracerline.errors import BadRoom, BadTick, BadWeb
-from tracerline.exact import Fraction, common_bottom, over_bottom
+from tracerline.exact import Fraction
+from tracerline.flows import scaled_rows, sent
 
 
 class Web:
@@ -18,10 +19,9 @@ class Web:
         from_passages = _all_leaks(passage_leaks, self.passages, "passage_leaks")
         self._room_totals = _totals(rows, from_rooms, "room")
         self._passage_totals = _totals(columns, from_passages, "passage")
-        # Amounts are played as integers over a bottom that every tick multiplies by the same number: so no amount
-        # has to be reduced before it is shown.
-        self._room_parts, room_scale = _parts(rows, self._room_totals)
-        self._passage_parts, passage_scale = _parts(columns, self._passage_totals)
+        self._room_parts, room_scale = scaled_rows(_parts(rows, self._room_totals))
+        self._passage_parts, passage_scale = scaled_rows(_parts(columns, self._passage_totals))
+        # Every tick multiplies the bottom of the amounts by this number.
         self._scale = room_scale * passage_scale
 
     @classmethod
@@ -94,8 +94,8 @@ class Web:
 
     def _next_tops(self, tops):
         """The tops of the amounts one tick later, with a bottom that is the scale times as great."""
-        held = _sent(tops, self._room_parts, self.passages)
-        return _sent(held, self._passage_parts, self.rooms)
+        held = sent(tops, self._room_parts, self.passages)
+        return sent(held, self._passage_parts, self.rooms)
 
 
 def _check_ticks(ticks):
@@ -139,16 +139,5 @@ def _totals(rows, leaks, reason):
 
 
 def _parts(rows, totals):
-    """The parts width / total as rows of integers, and the scale over which these integers are the parts."""
-    parts = [[Fraction(width, total) for width in row] for row, total in zip(rows, totals)]
-    scale = common_bottom([part for row in parts for part in row])
-    return [[over_bottom(part, scale) for part in row] for row in parts], scale
-
-
-def _sent(amounts, parts, many):
-    """What arrives at so many places if each amount is sent away by its row of parts."""
-    arrived = [0] * many
-    for amount, row in zip(amounts, parts):
-        for place, part in enumerate(row):
-            arrived[place] = arrived[place] + amount * part
-    return arrived
+    """The parts width / total, a row for each row of widths."""
+    return [[Fraction(width, total) for width in row] for row, total in zip(rows, totals)]
