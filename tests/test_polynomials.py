@@ -187,6 +187,21 @@ class Operators(PolynomialCase):
         self.assertFalse(Polynomial([1, 2]) == Polynomial([1]))
         self.assertFalse(Polynomial([1, 2, 4]) == Polynomial([1, 3, 4]))
 
+    def test_equal_whatever_they_were_made_by(self):
+        for sample in SAMPLES:
+            one = Polynomial(sample)
+            for number in (-6, HALF, Fraction(-5, 12), LONG):
+                self.check(one.scaled(number).scaled(Fraction(1).over(number)), sample)
+                self.assertTrue(one.scaled(number).scaled(Fraction(1).over(number)) == one)
+                for factor in (Polynomial([number, HALF]), Polynomial([HALF, number])):
+                    quotient = (one * factor).divided(factor)[0]
+                    self.assertTrue(quotient == one)
+                    self.assertIs(quotient.has_negative(), one.has_negative())
+                    self.assertTrue(one + factor - factor == one)
+                    self.assertFalse(one + factor == one)
+            self.assertTrue(one - one == Polynomial())
+            self.assertTrue(--one == one)
+
     def test_other_kinds_are_not_equal(self):
         for thing in (1, "1", None, [1], Fraction(1)):
             self.assertFalse(Polynomial([1]) == thing)
@@ -199,6 +214,11 @@ class Operators(PolynomialCase):
 
 
 class Methods(PolynomialCase):
+    def test_negative_coefficients(self):
+        for sample in SAMPLES:
+            self.assertIs(Polynomial(sample).has_negative(), any(c < 0 for c in sample))
+            self.assertIs((-Polynomial(sample)).has_negative(), any(c > 0 for c in sample))
+
     def test_scaled(self):
         for sample in SAMPLES:
             for number in POINTS:

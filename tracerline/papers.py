@@ -27,7 +27,7 @@ def holds(paper, readings):
     """Whether the paper shows its bound for every web that shows the readings."""
     if paper.kind not in Paper.KINDS or paper.tick < 0:
         return False
-    if any([coefficient < 0 for coefficient in paper.quotient.coefficients()]):
+    if paper.quotient.has_negative():
         return False
     if paper.rest.degree >= len(readings):
         return False
