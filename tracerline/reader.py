@@ -54,14 +54,15 @@ class Reader:
         if self.last_tick >= self._most:
             raise FullReader(self._most)
         value = as_fraction(reading)
-        if value not in self:
-            raise Barred(self.last_tick + 1, self._barring(value))
+        above = value - self.low
+        if above < 0 or above > self.gap:
+            raise Barred(self.last_tick + 1, self._barring(above))
         share = None
         next_gap = self.gap
         if not self.settled:
-            share = (value - self.low).over(self.gap)
+            share = above.over(self.gap)
             # The gap is multiplied by the share and by 1 - share.
-            next_gap = (value - self.low) * (1 - share)
+            next_gap = above * (1 - share)
             self._add_share(share)
         self._readings.append(value)
         self._lows.append(self._next_low())
@@ -115,9 +116,9 @@ class Reader:
         latest = self._readings[len(self._readings) - half.degree:]
         return -half.sum_over(latest + [0])
 
-    def _barring(self, value):
-        """Weights that bar the readings together with this next one, which is out of their range."""
-        weights = bounding_weights(self._shares, 0 if value < self.low else 1)
+    def _barring(self, above):
+        """Weights that bar the readings together with a next one that is so far above the least one: out of range."""
+        weights = bounding_weights(self._shares, 0 if above < 0 else 1)
         while weights.degree <= self.last_tick:
             weights = weights.times_x()
         return weights
