@@ -45,7 +45,7 @@ class Web:
         """The amounts in the rooms after so many ticks if 1 was in the room start and nothing elsewhere."""
         _check_ticks(ticks)
         self._check_room(start)
-        tops = self._tops(start)
+        tops = self._first_tops(start)
         bottom = 1
         for _ in range(ticks):
             tops = self._next_tops(tops)
@@ -73,7 +73,7 @@ class Web:
     def ticking(self, ticks):
         """The same amounts as those of readings, one after another."""
         _check_ticks(ticks)
-        tops = self._tops(0)
+        tops = self._first_tops(0)
         bottom = 1
         yield Fraction(tops[0], bottom)
         for _ in range(ticks):
@@ -86,7 +86,7 @@ class Web:
         if room < 0 or room >= self.rooms:
             raise BadRoom(room)
 
-    def _tops(self, start):
+    def _first_tops(self, start):
         """The tops of the amounts at the tick 0, with the bottom 1."""
         tops = [0] * self.rooms
         tops[start] = 1
