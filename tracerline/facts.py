@@ -38,7 +38,8 @@ def later_with(readings, tick, facts):
     Raises BadReadings, Barred, BadTick(tick) and Clash.
     """
     reader = reader_of(readings)
-    least, greatest = reader.as_line(end=0)(tick), reader.as_line(end=1)(tick)
+    low_line, high_line = reader.as_line(end=0), reader.as_line(end=1)
+    least, greatest = low_line(tick), high_line(tick)
     _check_facts(reader, facts)
     if tick <= reader.last_tick or reader.settled:
         return least, greatest, True, True

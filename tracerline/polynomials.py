@@ -73,8 +73,9 @@ class Polynomial:
             return NotImplemented
         bottom = lcm(self._bottom, other._bottom)
         size = max(len(self), len(other))
-        pairs = zip(_tops_over(self, bottom, size), _tops_over(other, bottom, size))
-        return _made([one + two for one, two in pairs], bottom)
+        ones = _tops_over(self, bottom, size)
+        twos = _tops_over(other, bottom, size)
+        return _made([one + two for one, two in zip(ones, twos)], bottom)
 
     def __sub__(self, other):
         if not isinstance(other, Polynomial):
